@@ -1,0 +1,1 @@
+"""Oncemail: each letter once."""
