@@ -1,0 +1,98 @@
+"""The interface as it must stand in the files, and the plainest rules for these files."""
+
+import ast
+import importlib
+import inspect
+import os
+import unittest
+
+import oncemail
+
+FOLDER = os.path.dirname(oncemail.__file__)
+LIBRARY = ("heapq", "math", "itertools", "collections", "__future__")
+
+FUNCTIONS = {
+    "names": {"is_house": ["thing"], "is_name": ["thing"], "is_device": ["thing"], "is_flag": ["thing"],
+              "are_flags": ["thing"], "are_uids": ["thing"], "is_deed": ["thing"], "completed": ["letters"]},
+    "addresses": {"read_address": ["text"], "write_address": ["address"], "read_addresses": ["text"],
+                  "write_addresses": ["addresses"]},
+    "codings": {"write_coding": ["text"], "read_coding": ["lines"]},
+    "letters": {"is_letter": ["thing"], "read_letter": ["text"], "write_letter": ["letter"], "size_of": ["letter"]},
+    "contents": {"headers_of": ["letter", "name"], "writer_of": ["letter"], "addresses_of": ["letter", "name"],
+                 "id_of": ["letter"], "references_of": ["letter"], "content_of": ["letter"], "terms_in": ["text"],
+                 "terms_of": ["letter", "where"], "outline": ["letter"], "part_of": ["letter", "path"],
+                 "answer_to": ["letter", "address", "word", "lines"]},
+    "threads": {"row_of": ["uid", "letter"], "forest": ["rows"], "names_of": ["rows", "uid"],
+                "path_of": ["rows", "uid"], "below": ["rows", "uid"]},
+}
+CLASSES = {
+    "errors": {"MailError": None, "BadLetter": ["line", "reason"], "BadQuery": ["place", "reason"],
+               "BadFilter": ["line", "reason"], "BadText": ["reason"], "BadPlain": ["place"], "BadHouse": ["reason"],
+               "BadLine": ["reason"], "BadTurn": None, "BadDeed": ["reason"]},
+}
+
+
+def tree_of(module):
+    with open(os.path.join(FOLDER, module + ".py"), encoding="ascii") as held:
+        return ast.parse(held.read())
+
+
+def package_files():
+    for folder, _, names in os.walk(FOLDER):
+        for name in names:
+            if not folder.endswith("__pycache__"):
+                yield os.path.join(folder, name)
+
+
+class Interface(unittest.TestCase):
+    def test_functions_are_defined_where_they_are_listed(self):
+        for module, functions in FUNCTIONS.items():
+            defined = [node.name for node in tree_of(module).body if isinstance(node, ast.FunctionDef)]
+            for name, parameters in functions.items():
+                with self.subTest(module=module, name=name):
+                    self.assertIn(name, defined)
+                    call = getattr(importlib.import_module(f"oncemail.{module}"), name)
+                    self.assertEqual(list(inspect.signature(call).parameters), parameters)
+
+    def test_classes_are_defined_where_they_are_listed(self):
+        for module, classes in CLASSES.items():
+            defined = [node.name for node in tree_of(module).body if isinstance(node, ast.ClassDef)]
+            for name, parameters in classes.items():
+                with self.subTest(module=module, name=name):
+                    self.assertIn(name, defined)
+                    made = getattr(importlib.import_module(f"oncemail.{module}"), name)
+                    if parameters is not None:
+                        self.assertEqual(list(inspect.signature(made.__init__).parameters)[1:], parameters)
+
+
+class Files(unittest.TestCase):
+    def test_the_folder_holds_only_files_of_python(self):
+        for path in package_files():
+            self.assertTrue(path.endswith(".py"), path)
+
+    def test_sizes_and_signs(self):
+        for path in package_files():
+            with open(path, encoding="ascii") as held:
+                text = held.read()
+            lines = text.split("\n")
+            self.assertLessEqual(text.count("\n"), 399, path)
+            self.assertLessEqual(max(map(len, lines)), 120, path)
+            self.assertTrue(all(sign == "\n" or " " <= sign <= "~" for sign in text), path)
+            for node in ast.walk(ast.parse(text)):
+                if isinstance(node, ast.FunctionDef):
+                    self.assertLessEqual(node.end_lineno - node.lineno + 1, 40, f"{path}: {node.name}")
+
+    def test_imports(self):
+        for path in package_files():
+            with open(path, encoding="ascii") as held:
+                tree = ast.parse(held.read())
+            for node in ast.walk(tree):
+                if isinstance(node, ast.Import):
+                    self.assertTrue(path.endswith("__main__.py"), path)
+                if isinstance(node, ast.ImportFrom):
+                    self.assertEqual(node.level, 0, path)
+                    self.assertIn(node.module.split(".")[0], ("oncemail",) + LIBRARY, path)
+
+
+if __name__ == "__main__":
+    unittest.main()
