@@ -70,6 +70,16 @@ def in_order(letters):
     return "".join([letter for letter in RIGHTS if letter in letters])
 
 
+def is_box(thing):
+    """Whether the thing is a user's number of a box, or -k for the box of deed k."""
+    return is_integer(thing)
+
+
+def is_content(thing):
+    """Whether the thing is a text as a deed holds it: any text."""
+    return is_text(thing)
+
+
 def is_mode(thing):
     """Whether the thing is a mode of a flag deed."""
     return thing in MODES
@@ -85,21 +95,20 @@ def are_texts(thing):
     return type(thing) is tuple and all([is_text(text) for text in thing])
 
 
-# What the parts of each deed must be. A number of a box is any integer: from 0
-# as it is, below 0 by the deed that made the box.
+# What the parts of each deed must be, behind its first word.
 PARTS = {
     "make": (is_name,),
-    "unmake": (is_integer,),
-    "rename": (is_integer, is_name),
-    "grant": (is_integer, is_name, are_rights),
-    "put": (is_integer, are_flags, is_text),
-    "flag": (is_integer, are_uids, is_mode, are_flags),
-    "copy": (is_integer, are_uids, is_integer),
-    "move": (is_integer, are_uids, is_integer),
-    "take": (is_integer, are_uids),
-    "leave": (is_integer,),
-    "filter": (is_text,),
-    "send": (are_texts, is_text),
+    "unmake": (is_box,),
+    "rename": (is_box, is_name),
+    "grant": (is_box, is_name, are_rights),
+    "put": (is_box, are_flags, is_content),
+    "flag": (is_box, are_uids, is_mode, are_flags),
+    "copy": (is_box, are_uids, is_box),
+    "move": (is_box, are_uids, is_box),
+    "take": (is_box, are_uids),
+    "leave": (is_box,),
+    "filter": (is_content,),
+    "send": (are_texts, is_content),
     "back": (is_count, is_count),
 }
 

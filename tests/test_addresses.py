@@ -89,7 +89,7 @@ class Lists(unittest.TestCase):
                 self.assertEqual(read_addresses(text), addresses)
 
     def test_one_wrong_piece_and_the_whole_is_refused(self):
-        for text in (",", " , ", ",,", "ann@oak,", ",ann@oak", "ann@oak, ", " ,ann@oak", "ann@oak,,bo@elm",
+        for text in ("x", "xx", " x ", "ann", ",", " , ", ",,", "ann@oak,", ",ann@oak", "ann@oak, ", " ,ann@oak", "ann@oak,,bo@elm",
                      "ann@oak, ,bo@elm", "ann@oak,bo", "bo,ann@oak", "ann@oak,bo@elm,x", "ann@oak;bo@elm",
                      "ann@oak bo@elm", "Lee, Ann <ann@oak>", "\n", "ann@oak,\nbo@elm", "ann@oak\n", " \n ",
                      "ann@oak, Bo@elm", "x, ann@oak"):
