@@ -12,10 +12,25 @@ def read_address(text):
         if ">" in shown or "," in shown or not rest.endswith(">"):
             raise BadText("bad address")
         bare = rest[:-1]
-    user, _, house = bare.partition("@")
-    if not is_name(user) or not is_house(house):
+    address = bare_address(bare)
+    if address is None:
         raise BadText("bad address")
-    return ("at", user, house)
+    return address
+
+
+def bare_address(text):
+    """The address of a text without a shown name, or None."""
+    user, _, house = text.partition("@")
+    address = ("at", user, house)
+    return address if is_address(address) else None
+
+
+def is_address(thing):
+    """Whether the thing is the value of an address."""
+    if type(thing) is not tuple or len(thing) != 3:
+        return False
+    kind, user, house = thing
+    return kind == "at" and is_name(user) and is_house(house)
 
 
 def write_address(address):

@@ -20,6 +20,13 @@ def proper_name(word):
     return "-".join([piece.capitalize() for piece in word.split("-")])
 
 
+def is_proper_name(thing):
+    """Whether the thing is a name that a header of a letter can have, as it must be written."""
+    if type(thing) is not str or not is_header_name(thing):
+        return False
+    return thing == proper_name(thing) and thing != "Parts"
+
+
 def are_headers(thing):
     """Whether the thing is a tuple of headers as a letter has them."""
     if type(thing) is not tuple or not 1 <= len(thing) <= MOST_HEADERS:
@@ -32,9 +39,7 @@ def is_header(thing):
     if type(thing) is not tuple or len(thing) != 2:
         return False
     name, text = thing
-    if not is_line(name) or not is_line(text) or text != text.strip(" "):
-        return False
-    if not is_header_name(name) or name != proper_name(name) or name == "Parts":
+    if not is_proper_name(name) or not is_line(text) or text != text.strip(" "):
         return False
     return len(name) + len(text) <= HEADER_SIGNS
 

@@ -2,6 +2,7 @@
 
 from oncemail.contents import id_of, references_of
 from oncemail.errors import BadText
+from oncemail.ties import Ties, lowest_name, parents_of
 
 
 def row_of(uid, letter):
@@ -29,34 +30,20 @@ def forest(rows):
 
 def names_of(rows, uid):
     """The names of the thread of the row with this uid, ascending."""
-    name = lowest_name(row_with(rows, uid))
-    if name == "":
-        return ()
-    parents = parents_of(rows)
-    roots = roots_of(parents)
-    return tuple(sorted([other for other in parents if roots[other] == roots[name]]))
+    row = row_with(rows, uid)
+    return Ties(rows).names(row)
 
 
 def path_of(rows, uid):
     """The names from the one without a parent down to the row with this uid."""
     row = row_with(rows, uid)
-    parents = parents_of(rows)
-    name = name_above(row, parents)
-    path = []
-    while name != "":
-        path.append(name)
-        name = parents[name]
-    return tuple(path[::-1])
+    return Ties(rows).path(row)
 
 
 def below(rows, uid):
     """The uids of the rows below the row with this uid, ascending."""
-    _, word, _ = row_with(rows, uid)
-    if word == "":
-        return ()
-    parents = parents_of(rows)
-    under = names_under(word, parents)
-    return tuple(sorted([row[0] for row in rows if name_above(row, parents) in under]))
+    row = row_with(rows, uid)
+    return Ties(rows).below(row)
 
 
 def row_with(rows, uid):
@@ -65,100 +52,6 @@ def row_with(rows, uid):
         if row[0] == uid:
             return row
     raise BadText("none")
-
-
-def lowest_name(row):
-    """The name in whose thread a row is: its id or its last reference; empty if none."""
-    _, word, references = row
-    if word != "" or len(references) == 0:
-        return word
-    return references[-1]
-
-
-def name_above(row, parents):
-    """The name directly above a row; empty if there is none."""
-    _, word, references = row
-    if word != "":
-        return parents[word]
-    return lowest_name(row)
-
-
-def parents_of(rows):
-    """The parent of each name, empty if it has none."""
-    own = {}
-    others = {}
-    names = {}
-    for _, word, references in rows:
-        for name in references:
-            names[name] = True
-        for parent, name in zip(references, references[1:]):
-            claim(others, name, parent)
-        if word != "":
-            names[word] = True
-        if word != "" and len(references) > 0:
-            claim(own, word, references[-1])
-    parents = {name: own.get(name, others.get(name, "")) for name in names}
-    open_rings(parents)
-    return parents
-
-
-def claim(claims, name, parent):
-    """Notes a claim, if it counts and is the smallest one of this name."""
-    if name != parent and parent <= claims.get(name, parent):
-        claims[name] = parent
-
-
-def open_rings(parents):
-    """Takes the parent of the smallest name of each ring."""
-    walks = {"": ""}
-    for start in list(parents):
-        name = start
-        while name not in walks:
-            walks[name] = start
-            name = parents[name]
-        if walks[name] == start:
-            parents[smallest_in_ring(name, parents)] = ""
-
-
-def smallest_in_ring(start, parents):
-    """The smallest name of the ring in which a name is."""
-    smallest = start
-    name = parents[start]
-    while name != start:
-        smallest = min(smallest, name)
-        name = parents[name]
-    return smallest
-
-
-def roots_of(parents):
-    """The name without a parent at which one ends, for each name."""
-    roots = {}
-    for start in parents:
-        trail = []
-        name = start
-        while name not in roots and parents[name] != "":
-            trail.append(name)
-            name = parents[name]
-        root = roots.get(name, name)
-        roots[name] = root
-        for passed in trail:
-            roots[passed] = root
-    return roots
-
-
-def names_under(word, parents):
-    """A dict with this name and all names that come to it by their parents."""
-    children = {}
-    for name in parents:
-        children.setdefault(parents[name], []).append(name)
-    under = {word: True}
-    waiting = [word]
-    while waiting:
-        name = waiting.pop()
-        for child in children.get(name, []):
-            under[child] = True
-            waiting.append(child)
-    return under
 
 
 def uids_by_name(rows):

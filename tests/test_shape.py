@@ -24,11 +24,19 @@ FUNCTIONS = {
                  "answer_to": ["letter", "address", "word", "lines"]},
     "threads": {"row_of": ["uid", "letter"], "forest": ["rows"], "names_of": ["rows", "uid"],
                 "path_of": ["rows", "uid"], "below": ["rows", "uid"]},
+    "queries": {"is_query": ["thing"], "read_query": ["text"], "write_query": ["query"]},
+    "meaning": {"holds": ["query", "record", "names"]},
+    "samples": {"apart": ["one", "other"]},
 }
 CLASSES = {
     "errors": {"MailError": None, "BadLetter": ["line", "reason"], "BadQuery": ["place", "reason"],
                "BadFilter": ["line", "reason"], "BadText": ["reason"], "BadPlain": ["place"], "BadHouse": ["reason"],
                "BadLine": ["reason"], "BadTurn": None, "BadDeed": ["reason"]},
+    "forests": {"Forest": []},
+}
+METHODS = {
+    "Forest": {"put": ["uid", "word", "references"], "take": ["uid"], "rows": [], "trees": [], "names": ["uid"],
+               "path": ["uid"], "below": ["uid"], "branch": []},
 }
 
 
@@ -63,6 +71,9 @@ class Interface(unittest.TestCase):
                     made = getattr(importlib.import_module(f"oncemail.{module}"), name)
                     if parameters is not None:
                         self.assertEqual(list(inspect.signature(made.__init__).parameters)[1:], parameters)
+                    for method, wanted in METHODS.get(name, {}).items():
+                        self.assertIn(method, vars(made))
+                        self.assertEqual(list(inspect.signature(vars(made)[method]).parameters)[1:], wanted)
 
 
 class Files(unittest.TestCase):
