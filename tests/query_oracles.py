@@ -3,7 +3,7 @@
 import itertools
 import re
 
-from tests.oracles import DIGITS, PROPER, written
+from tests.oracles import DIGITS, PROPER, Fault, written
 
 SIGNS = "\n" + "".join(chr(code) for code in range(32, 127) if code != 37)
 WORD = re.compile(r"[!-$&-~]{1,400}\Z")
@@ -11,12 +11,6 @@ USER = re.compile(r"[a-z][a-z0-9]{0,11}\Z")
 HOUSE = re.compile(r"[a-z]{1,12}\Z")
 TERM = re.compile(r"[a-z0-9]{1,30}\Z")
 NUMBER = re.compile(r"[1-9][0-9]{0,8}\Z")
-
-
-class Fault(Exception):
-    def __init__(self, place, reason):
-        super().__init__(place, reason)
-        self.told = (place, reason)
 
 
 def matches(pattern, thing):

@@ -27,16 +27,25 @@ FUNCTIONS = {
     "queries": {"is_query": ["thing"], "read_query": ["text"], "write_query": ["query"]},
     "meaning": {"holds": ["query", "record", "names"]},
     "samples": {"apart": ["one", "other"]},
+    "index": {"read_index": ["text"]},
+    "filters": {"is_filter": ["thing"], "read_filter": ["text"], "write_filter": ["sieve"],
+                "run_filter": ["sieve", "letter", "turn"]},
+    "shorter": {"filters_apart": ["one", "other"], "reached": ["sieve", "place"], "shorten": ["sieve"]},
+    "boxes": {"new_box": [], "signs_of": ["box"], "record_of": ["box", "uid"], "has_room": ["box", "sizes"],
+              "put_in": ["box", "rows"], "flagged": ["box", "uids", "mode", "flags"], "taken_out": ["box", "uids"]},
 }
 CLASSES = {
     "errors": {"MailError": None, "BadLetter": ["line", "reason"], "BadQuery": ["place", "reason"],
                "BadFilter": ["line", "reason"], "BadText": ["reason"], "BadPlain": ["place"], "BadHouse": ["reason"],
                "BadLine": ["reason"], "BadTurn": None, "BadDeed": ["reason"]},
     "forests": {"Forest": []},
+    "index": {"Index": []},
 }
 METHODS = {
     "Forest": {"put": ["uid", "word", "references"], "take": ["uid"], "rows": [], "trees": [], "names": ["uid"],
                "path": ["uid"], "below": ["uid"], "branch": []},
+    "Index": {"put": ["record"], "take": ["uid"], "uids": [], "rows": ["term"], "terms": [], "names": ["uid"],
+              "search": ["query"], "outcomes": ["sieve"], "text": []},
 }
 
 
