@@ -1,7 +1,7 @@
 """The tests of queries: which are right, how they are written and read (q1)."""
 
 from oncemail.addresses import bare_address, is_address, write_address
-from oncemail.headers import is_header_name, is_proper_name, proper_name
+from oncemail.headers import is_proper_name, proper_name
 from oncemail.names import is_flag
 from oncemail.signs import DIGITS, SMALL, consists_of, is_integer, is_word
 
@@ -77,8 +77,8 @@ def is_part(kind, thing):
 
 
 def is_test(thing):
-    """Whether the thing is a test."""
-    if type(thing) is not tuple or len(thing) == 0 or type(thing[0]) is not str:
+    """Whether a tuple that is not empty is a test."""
+    if type(thing[0]) is not str:
         return False
     kinds = PARTS.get(thing[0], None)
     if kinds is None or len(thing) != len(kinds) + 1:
@@ -115,22 +115,19 @@ def address_parts(word):
     return None if address is None else (address,)
 
 
+def right_parts(check, part):
+    """The part as a tuple, if it is a right one."""
+    return (part,) if check(part) else None
+
+
 def name_parts(word):
     """The part of a test that is a name of headers, its letters of any case in the word."""
-    if not is_header_name(word):
-        return None
-    name = proper_name(word)
-    return (name,) if is_proper_name(name) else None
+    return right_parts(is_proper_name, proper_name(word))
 
 
 def term_parts(word):
     """The part of a test that is a term, its letters of any case in the word."""
     return right_parts(is_term, word.lower())
-
-
-def right_parts(check, part):
-    """The part as a tuple, if it is a right one."""
-    return (part,) if check(part) else None
 
 
 def number_in(word):

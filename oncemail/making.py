@@ -32,10 +32,8 @@ def held_tests(answers):
 def uid_for(answers):
     """A uid for which the tests of uids have these answers."""
     tests = [test for test in answers if test[0] == "uid"]
-    for uid in edge_uids(tests):
-        if all([is_within(uid, test) == answers[test] for test in tests]):
-            return uid
-    return 1
+    like = [uid for uid in edge_uids(tests) if all([is_within(uid, test) == answers[test] for test in tests])]
+    return like[0]
 
 
 def turn_for(answers):

@@ -4,7 +4,8 @@ import random
 import unittest
 
 from oncemail.errors import BadQuery
-from oncemail.letters import is_letter
+from oncemail.index import Index
+from oncemail.letters import is_letter, size_of
 from oncemail.meaning import holds
 from oncemail.queries import is_query, read_query
 from oncemail.samples import apart
@@ -31,6 +32,10 @@ class Case(unittest.TestCase):
             self.assertTrue(is_letter(record[5]), record)
             self.assertTrue(right_letter(record[5]), record)
         self.assertNotEqual(records_that_hold(one, sample), records_that_hold(other, sample), (one, other, sample))
+        index = Index()
+        for record in sample:
+            index.put(record)
+        self.assertNotEqual(index.search(one), index.search(other))
         rows = [row_of(record[1], record[5]) for record in sample]
         told = [[oracles.holds(query, record, thread_names(rows, record[1])) for record in sample]
                 for query in (one, other)]
@@ -148,7 +153,7 @@ class Rules(Case):
         eight = " and ".join(f"flag {letter}" for letter in "abcdefgh")
         self.are_alike((f"{eight} and flag i", "not all"), (f"{eight} and not flag i", eight),
                        (f"{eight} and ( flag i or flag j )", "not all"))
-        self.are_apart((eight, "not all"), (f"{eight} and not flag i", "not all"),
+        self.are_apart(("flag b and flag c and flag a", "not all"), (eight, "not all"), (f"{eight} and not flag i", "not all"),
                        (" and ".join(f"not flag {letter}" for letter in "abcdefghi"), "not all"))
 
     def test_5_only_flags_are_counted(self):
@@ -162,7 +167,9 @@ class Rules(Case):
                        ("has Id or has Re or thread a and thread b", "has Id or has Re"))
         self.are_apart(("thread a and not has Id", "not all"), ("thread a and not has Re", "not all"),
                        ("thread a and has Re and has Id", "not all"), ("has Id and has Re and not thread a", "not all"),
-                       ("thread a and not has From", "not all"), ("thread a and thread b", "thread a"))
+                       ("thread a and not has From", "not all"), ("thread a and thread b", "thread a"),
+                       ("text a and not has Id and not has Re", "not all"),
+                       ("not thread a and not has Id and not has Re", "not all"))
 
 
 class Together(Case):
@@ -176,6 +183,13 @@ class Together(Case):
                      "thread a and uid 2 and flag a", "thread a and not uid 1"):
             self.are_apart((text, "not all"))
         self.assertEqual(len(apart(read_query("thread a and not term a"), ("not", ("all",)))), 2)
+
+    def test_words_that_join_are_none_of_the_words_that_are_asked(self):
+        for text in ("thread a and not thread !", "thread a and not thread ! and not thread -!",
+                     "thread a and not has Re and not thread ! and not thread -!", "header Re a and not thread !a",
+                     "thread b and header Re a and not thread a and not thread !a and not thread -!a",
+                     "thread a" + "".join(f" and not thread {'-' * many}!" for many in range(11))):
+            self.are_apart((text, "not all"))
 
     def test_words_of_the_record_itself(self):
         for text in ("header Id a and not thread a", "header Re a and not thread a", "header Re a and has Id and not thread a",
@@ -204,6 +218,16 @@ class Together(Case):
         self.are_apart((f"{words} and not size 1000", "not all"))
         self.are_apart((" and ".join(f"thread {'-' * many}!" for many in range(11)) + " and not size 1000", "not all"))
         self.are_apart((" and ".join(f"term {letter * 30}" for letter in "abcdefghijk") + " and not size 1000", "not all"))
+
+    def test_names_of_headers_that_are_asked_with_a_term(self):
+        some = " and ".join(f"not header {letter} t" for letter in "ABCDEFGHIJK")
+        self.are_apart((f"term t and {some}", "not all"), (f"term t and not text t and {some[:-len(' and not header K t')]}",
+                                                           "not all"))
+
+    def test_letters_of_each_size(self):
+        for size in list(range(1000, 1530)) + [19497, 19498, 19499, 19998]:
+            query = read_query(f"size {size} and not size {size + 1} and text a")
+            self.assertEqual([size_of(record[5]) for record in self.sampled(query, ("not", ("all",)))], [size + 1])
 
     def test_the_greatest_letter(self):
         self.are_apart(("size 19999 and text a and term b and has C and from a@b", "not all"))

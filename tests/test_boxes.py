@@ -93,6 +93,9 @@ class Asked(Case):
         self.assertEqual(record_of(box, 1), ("kept", 1, 1, (), 0, PLAIN))
         for uid in (2, 5, 0, 999999999):
             self.assertIsNone(record_of(box, uid))
+        box = flagged(box, (4,), "add", ("x",))
+        self.assertEqual(record_of(box, 4), ("kept", 4, 6, ("x",), 3, PLAIN))
+        self.assertIsNone(record_of(box, 6))
 
 
 class Room(Case):
