@@ -4,6 +4,7 @@ from oncemail.contents import addresses_of, headers_of, terms_of, writer_of
 from oncemail.letters import size_of
 from oncemail.logic import mask_of, tests_of
 
+
 def holds(query, record, names):
     """Whether a query holds for a record and names."""
     asked = Asked(record, names)

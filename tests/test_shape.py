@@ -33,6 +33,11 @@ FUNCTIONS = {
     "shorter": {"filters_apart": ["one", "other"], "reached": ["sieve", "place"], "shorten": ["sieve"]},
     "boxes": {"new_box": [], "signs_of": ["box"], "record_of": ["box", "uid"], "has_room": ["box", "sizes"],
               "put_in": ["box", "rows"], "flagged": ["box", "uids", "mode", "flags"], "taken_out": ["box", "uids"]},
+    "store": {"store_of": ["state"]},
+    "plain": {"show_plain": ["value"], "read_plain": ["text"]},
+    "journal": {"journal_line": ["n", "entry"], "read_journal": ["text"]},
+    "talk": {"read_number": ["word"], "read_box": ["word"], "read_uids": ["word"], "read_flags": ["word"],
+             "show_uids": ["uids"], "show_flags": ["flags"], "show_value": ["value"], "say": ["words", "literal"]},
 }
 CLASSES = {
     "errors": {"MailError": None, "BadLetter": ["line", "reason"], "BadQuery": ["place", "reason"],
@@ -40,12 +45,20 @@ CLASSES = {
                "BadLine": ["reason"], "BadTurn": None, "BadDeed": ["reason"]},
     "forests": {"Forest": []},
     "index": {"Index": []},
+    "store": {"Store": ["users"]},
+    "talk": {"Listener": ["most"]},
 }
 METHODS = {
     "Forest": {"put": ["uid", "word", "references"], "take": ["uid"], "rows": [], "trees": [], "names": ["uid"],
                "path": ["uid"], "below": ["uid"], "branch": []},
     "Index": {"put": ["record"], "take": ["uid"], "uids": [], "rows": ["term"], "terms": [], "names": ["uid"],
               "search": ["query"], "outcomes": ["sieve"], "text": []},
+    "Store": {"do": ["turn", "user", "deed", "values"], "boxes": ["user"], "look": ["user", "number"],
+              "since": ["user", "number", "change"], "letter": ["user", "number", "uid"], "records": ["user", "number"],
+              "file": ["turn", "user", "pairs", "letter"], "notice": ["turn", "user", "letter"],
+              "next_number": ["user"], "number_of": ["user", "name"], "filter_of": ["user"], "state": [],
+              "branch": []},
+    "Listener": {"hear": ["text"], "faulty": []},
 }
 
 
