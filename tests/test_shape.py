@@ -38,6 +38,10 @@ FUNCTIONS = {
     "journal": {"journal_line": ["n", "entry"], "read_journal": ["text"]},
     "talk": {"read_number": ["word"], "read_box": ["word"], "read_uids": ["word"], "read_flags": ["word"],
              "show_uids": ["uids"], "show_flags": ["flags"], "show_value": ["value"], "say": ["words", "literal"]},
+    "commands": {"deed_of": ["words", "literal"], "words_of": ["deed"]},
+    "house": {"first_line": ["name", "users", "groups", "houses"], "house_of": ["text"]},
+    "device": {"device_of": ["text"]},
+    "world": {"world_of": ["text"]},
 }
 CLASSES = {
     "errors": {"MailError": None, "BadLetter": ["line", "reason"], "BadQuery": ["place", "reason"],
@@ -47,6 +51,9 @@ CLASSES = {
     "index": {"Index": []},
     "store": {"Store": ["users"]},
     "talk": {"Listener": ["most"]},
+    "house": {"House": None},
+    "device": {"Device": ["user", "name", "life"]},
+    "world": {"World": ["houses", "devices"]},
 }
 METHODS = {
     "Forest": {"put": ["uid", "word", "references"], "take": ["uid"], "rows": [], "trees": [], "names": ["uid"],
@@ -59,6 +66,14 @@ METHODS = {
               "next_number": ["user"], "number_of": ["user", "name"], "filter_of": ["user"], "state": [],
               "branch": []},
     "Listener": {"hear": ["text"], "faulty": []},
+    "House": {"attach": ["mark", "who"], "detach": ["mark"], "hear": ["mark", "text"], "work": ["turn"], "say": [],
+              "short": [], "name": [], "waiting": [], "store": [], "fates": ["user"]},
+    "Device": {"do": ["deed"], "begin": [], "leave": [], "hear": ["text"], "say": [], "state": [], "waits": [],
+               "unsettled": [], "answers": [], "forget": ["number"], "boxes": [], "kept": ["number"],
+               "shown": ["number"], "search": ["number", "query"], "text": []},
+    "World": {"turn": ["fates"], "now": [], "device": ["house", "user", "name"], "store": ["house"],
+              "fates": ["house", "user"], "waiting": ["house"], "journal": ["house"], "shorten": ["house"], "lines": [],
+              "text": []},
 }
 
 
