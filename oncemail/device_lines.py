@@ -12,8 +12,7 @@ MOST_DEVICES = 4
 class DeviceLine:
     """A line to a device, which says at first who it is."""
 
-    def __init__(self, mark, scribe):
-        self.mark = mark
+    def __init__(self, scribe):
         # No line to another house.
         self.house = ""
         self._scribe = scribe
@@ -98,26 +97,26 @@ class DeviceLine:
             self._scribe.write("met", user, device, life, heard)
         known = devices.known(user, device)
         rows = []
+        # What this hello tells as heard is not among them any more.
         for number in sorted(known.answers):
-            if number > heard:
-                told = answer_words(known.answers[number][0])
-                rows.append(row("did", number, *told))
+            told = answer_words(known.answers[number][0])
+            rows.append(row("did", number, *told))
         rows.append(row("ok", known.last))
         return "".join(rows)
 
     def _refusal(self, user, device, life, heard):
-        """The reason for which a hello is refused, in the order in which k5 tells them."""
+        """The first reason for which a hello is refused, by c9."""
         devices = self._ledger.devices
-        if not is_device(device):
-            return "name"
-        if user not in self._ledger.users:
-            return "none"
-        if devices.others_of(user, device) >= MOST_DEVICES:
-            return "many"
         known = devices.known(user, device)
         if known is not None and known.life > life:
             return "order"
-        return "order" if heard > devices.last_of(user, device, life) else ""
+        if heard > devices.last_of(user, device, life):
+            return "order"
+        if not is_device(device):
+            return "name"
+        if devices.others_of(user, device) >= MOST_DEVICES:
+            return "many"
+        return "" if user in self._ledger.users else "none"
 
     def _do(self, words, literal):
         """The answer to a deed."""

@@ -83,11 +83,11 @@ class House:
         if not is_word(mark) or len(mark) > MARK_SIGNS or mark in self._lines:
             raise BadLine("mark")
         if who == "":
-            self._lines[mark] = DeviceLine(mark, self._scribe)
+            self._lines[mark] = DeviceLine(self._scribe)
             return
         if who not in self._ledger.posts or who in [line.house for line in self._lines.values()]:
             raise BadLine("who")
-        self._lines[mark] = HouseLine(mark, who, self._scribe)
+        self._lines[mark] = HouseLine(who, self._scribe)
 
     def detach(self, mark):
         """Closes a line."""
@@ -105,7 +105,7 @@ class House:
         """Does a turn; the text that goes behind the journal."""
         if not 0 <= turn <= MOST_TURN or turn <= self._scribe.turn:
             raise BadTurn("turn")
-        self._scribe.turn = turn
+        self._scribe.begin(turn)
         lines = list(self._lines.values())
         for line in lines:
             line.work()

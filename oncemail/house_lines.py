@@ -12,8 +12,7 @@ PATIENCE = 100
 class HouseLine:
     """A line to another house."""
 
-    def __init__(self, mark, house, scribe):
-        self.mark = mark
+    def __init__(self, house, scribe):
         self.house = house
         self._scribe = scribe
         self._name = scribe.ledger.name

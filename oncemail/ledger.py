@@ -96,7 +96,8 @@ def meet(ledger, _, user, device, life, heard):
 
 def take_in(ledger, turn, house, number, thing):
     """A letter or a notice came from another house."""
-    ledger.posts[house].taken[number] = True
+    post = ledger.posts[house]
+    post.taken[number] = True
     parts = thing[1:]
     if thing[0] == "letter":
         travel(ledger, turn, [parts])
@@ -106,12 +107,14 @@ def take_in(ledger, turn, house, number, thing):
 
 def offer(ledger, _, house, number):
     """An entry was said to its house."""
-    ledger.posts[house].waiting[number].offered = True
+    held = ledger.posts[house].waiting[number]
+    held.offered = True
 
 
 def let_go(ledger, _, house, number):
     """An entry has come to its house."""
-    del ledger.posts[house].waiting[number]
+    post = ledger.posts[house]
+    del post.waiting[number]
 
 
 def give_up(ledger, turn, house, number):

@@ -82,7 +82,6 @@ class Meeting:
 
     def _refuse(self):
         """Ends the meeting for a refusal of the house."""
-        self._answered()
         self._ask(("bye",), ("bye",), None)
         self.state = "refused"
         return True

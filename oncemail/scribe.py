@@ -13,6 +13,10 @@ class Scribe:
         self._count = count
         self._lines = []
 
+    def begin(self, turn):
+        """Goes on to another turn."""
+        self.turn = turn
+
     def write(self, kind, *parts):
         """Does the entry of this kind in this turn and writes it; its answer."""
         entry = (kind, self.turn, *parts)

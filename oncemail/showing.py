@@ -140,7 +140,8 @@ def show_rename(view, _, own):
     """Shows the other name of a box."""
     shown = own_number(view, own.deed[1])
     if shown is not None and not view.has_own(own.deed[2]):
-        view.boxes[shown].name = own.deed[2]
+        box = view.boxes[shown]
+        box.name = own.deed[2]
 
 
 def show_leave(view, _, own):

@@ -4,7 +4,7 @@ import unittest
 
 from oncemail.letters import read_letter, write_letter
 from oncemail.talk import say
-from tests.halls import Hall, mail
+from tests.halls import Hall, long_mail, mail
 
 
 class Hello(unittest.TestCase):
@@ -19,7 +19,8 @@ class Hello(unittest.TestCase):
         for line, reason in (("hello ann Pad 1 0", "name"), ("hello ann pad1 1 0", "name"),
                              ("hello ann padpadpad 1 0", "name"), ("hello zoe pad 1 0", "none"),
                              ("hello Ann pad 1 0", "none"), ("hello zoe Pad 1 0", "name"),
-                             ("hello ann pad 1 1", "order")):
+                             ("hello ann pad 1 1", "order"), ("hello zoe pad 1 1", "order"),
+                             ("hello zoe Pad 1 1", "order"), ("hello ann Pad 1 1", "order")):
             self.assertEqual(self.first(line + "\n"), ["no " + reason])
             self.assertEqual(self.hall.new, ())
         # Behind a refusal one may say hello again.
@@ -33,6 +34,8 @@ class Hello(unittest.TestCase):
         self.assertEqual(self.first("hello ann e 1 0\n"), ["no many"])
         self.assertEqual(self.hall.new, ())
         self.assertEqual(self.first("hello ann e 9 0\n"), ["no many"])
+        self.assertEqual(self.first("hello ann E 9 0\n"), ["no name"])
+        self.assertEqual(self.first("hello ann e 9 1\n"), ["no order"])
         self.assertEqual(self.first("hello ann a 2 0\n"), ["ok 0"])
         self.assertEqual(self.first("hello bo e 1 0\n"), ["ok 0"])
 
@@ -181,14 +184,14 @@ class Questions(unittest.TestCase):
     def test_look(self):
         hall = self.hall
         text = mail()
-        hall.do("a", 1, "put 0 -", text)
-        hall.do("a", 2, "put 0 -", text)
-        hall.do("a", 3, "take 0 1")
-        self.assertEqual(hall.ask("a", "look 0\n"), [f"ok seen 3 3 0 1 {len(text)}"])
+        for number in (1, 2, 3, 4):
+            hall.do("a", number, "put 0 -", text)
+        hall.do("a", 5, "take 0 1:3")
+        self.assertEqual(hall.ask("a", "look 0\n"), [f"ok seen 5 5 0 1 {len(text)}"])
         self.assertEqual(hall.ask("a", "look 1\n"), ["ok seen 1 0 0 0 0"])
-        hall.do("a", 4, "grant 0 bo i")
+        hall.do("a", 6, "grant 0 bo i")
         self.assertEqual(hall.ask("b", "look 3\n"), [f"ok room 999 {1000000 - len(text)}"])
-        hall.do("a", 5, "grant 0 bo l")
+        hall.do("a", 7, "grant 0 bo l")
         self.assertEqual(hall.ask("b", "look 3\nlook 4\nlook -1\n"), ["ok there", "no none", "no none"])
 
     def test_since(self):
@@ -224,7 +227,9 @@ class Questions(unittest.TestCase):
                                        "find 0 thread m2 or ( uid 1-1 )\n"), ["ok 1,3", "ok 1:4", "ok -", "ok 1:2", "ok 1,3:4"])
         self.assertEqual(hall.ask("a", "find 0 subject\nfind 99 what\nfind -1 what\nfind -1 all\nfind 99 all\n"),
                          ["no text", "no text", "no text", "no none", "no none"])
-        hall.do("a", 5, "grant 0 bo i")
+        hall.do("a", 5, "flag 0 1,3 add x")
+        self.assertEqual(hall.ask("a", "find 0 all\nfind 0 flag x\n"), ["ok 1:4", "ok 1,3"])
+        hall.do("a", 6, "grant 0 bo i")
         self.assertEqual(hall.ask("b", "find 3 all\nfind 3 what\n"), ["no rights", "no text"])
 
     def test_threads(self):
@@ -234,8 +239,11 @@ class Questions(unittest.TestCase):
             hall.do("a", number, "put 0 -", text)
         self.assertEqual(sorted(hall.ask("a", "threads 0\n")), sorted([
             "node 0 1,6 m1", "node 1 2 -", "node 0 3 --", "node 0 4 --x", "node 0 5 -", "ok"]))
+        hall.do("a", 7, "flag 0 1:3 add x")
+        self.assertEqual(hall.ask("a", "threads 0\n")[:-1], [
+            "node 0 1,6 m1", "node 1 2 -", "node 0 3 --", "node 0 4 --x", "node 0 5 -"])
         self.assertEqual(hall.ask("a", "threads 1\nthreads 9\nthreads -1\n"), ["ok", "no none", "no none"])
-        hall.do("a", 7, "grant 0 bo i")
+        hall.do("a", 8, "grant 0 bo i")
         self.assertEqual(hall.ask("b", "threads 3\n"), ["no rights"])
 
     def test_rules(self):
@@ -273,6 +281,12 @@ class Questions(unittest.TestCase):
             hall.hello("b", "ann", "pod")
             hall.do("b", 1, "put 0 -", mail())
             self.assertEqual(hall.turn(), {})
+
+    def test_the_greatest_literal(self):
+        hall = self.hall
+        self.assertEqual(hall.do("a", 1, "put 0 -", long_mail(20000)), "ok 1")
+        self.assertEqual(hall.ask("a", "do 2 put 0 - {20000}\n"), [])
+        self.assertEqual(hall.ask("b", "do 1 put 0 - {20001}\n"), ["bye"])
 
     def test_bye(self):
         hall = self.hall

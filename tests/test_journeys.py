@@ -265,7 +265,8 @@ class Boxes(Journeys):
         self.do("bo", "unmake 3")
         self.do("bo", "take 0 1:9")
         self.give(1)
-        self.assertEqual(self.hall.house.store().records("bo", 0)[-1][3], ("blue",))
+        records = self.hall.house.store().records("bo", 0)
+        self.assertEqual([row[3] for row in records if "Subject" in dict(row[5][1])], [("blue",)])
 
     def test_full_and_forward(self):
         self.fill("bo", 0)

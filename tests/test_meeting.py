@@ -302,6 +302,12 @@ class Steps(unittest.TestCase):
         device.hear("ok 0\nbye\n")
         self.assertEqual((device.state(), device.say()), ("refused", "hello ann pad 1 0\nboxes\n"))
 
+    def test_the_greatest_literal(self):
+        for many, state in ((20000, "meets"), (20001, "refused")):
+            device, _ = started("ok 0\n", "box 0 ann inbox lr\nok 1\n", "kept 1 1 - 0 9\nok since 2 1\n")
+            device.hear("ok {%d}\n" % many)
+            self.assertEqual(device.state(), state)
+
     def test_a_fault_refuses(self):
         device = Device("ann", "pad", 1)
         device.begin()

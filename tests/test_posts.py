@@ -363,7 +363,7 @@ class Faults(unittest.TestCase):
             words = right.split("\n")[0].split(" ")
             words[at] = word
             wrong.append(" ".join(words) + right[right.index("\n"):])
-        for at, word in ((1, "x"), (2, "Elm"), (3, "1"), (4, "P"), (5, "0"), (6, "0"), (7, "bo@elm"), (7, "bo@yew"), (7, "bo"),
+        for at, word in ((1, "x"), (2, "Elm"), (3, "1"), (4, "P"), (5, "0"), (6, "0"), (7, "bo@elm"), (7, "bo@yew"), (7, "bo"), (7, "Bo@oak"), (8, "X@elm"),
                          (8, "x"), (9, "over"), (9, "waits"), (9, "Full"), (9, "")):
             words = note[:-1].split(" ")
             words[at] = word
@@ -391,6 +391,13 @@ class Faults(unittest.TestCase):
             hall.house.detach("p")
             hall.open("p", who="elm")
             self.assertEqual(hall.turn()["p"][:12], "low 0\nask 0\n")
+
+    def test_the_greatest_literal(self):
+        head = "give 0 elm eve pad 1 1 eve@elm bo@oak bo@oak 0"
+        for many, told in ((30000, {"p": "low 0\n"}), (30001, {"p": "bye\n"})):
+            hall = Hall()
+            hall.open("p", who="elm")
+            self.assertEqual(hall.turn(p=head + " {%d}\n" % many), told)
 
     def test_right_ones(self):
         for text in (give(0, "bo@oak", long_mail(20000), trail=tuple(f"u{n}@elm" for n in range(900))),
