@@ -1,9 +1,9 @@
 """The deeds on the boxes of a house: their reasons and what they do (s4 to s7)."""
 
 from oncemail.boxes import flags_behind
-from oncemail.errors import BadFilter, BadLetter
+from oncemail.errors import BadFilter
 from oncemail.filters import read_filter
-from oncemail.letters import read_letter, size_of
+from oncemail.letters import letter_or_none, size_of
 from oncemail.names import completed
 from oncemail.outcomes import MOST_FLAGS
 
@@ -117,14 +117,6 @@ def put(shelves, turn, user, deed):
         return refused("full")
     uids = shelves.put(place, ((flags, turn, letter),), sizes)
     return ("ok", uids[0] if "r" in shelves.letters_of(user, place) else None)
-
-
-def letter_or_none(text):
-    """The letter of a text, or None if it is none."""
-    try:
-        return read_letter(text)
-    except BadLetter:
-        return None
 
 
 def records_with(box, uids):

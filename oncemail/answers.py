@@ -1,10 +1,9 @@
 """What a house answers to the questions of a device (k5)."""
 
 from oncemail.boxes import signs_of
-from oncemail.errors import BadQuery
+from oncemail.filters import query_or_none
 from oncemail.finding import places_found
 from oncemail.letters import size_of, write_letter
-from oncemail.queries import read_query
 from oncemail.sending import fates_of
 from oncemail.talk import read_box, read_number, say, show_flags, show_uids
 from oncemail.threads import forest, row_of
@@ -90,14 +89,6 @@ def find(ledger, user, words):
         return row(*records)
     uids = tuple([records[place][1] for place in places_found(records, query)])
     return row("ok", show_uids(uids))
-
-
-def query_or_none(text):
-    """The query of a text, or None if it is none."""
-    try:
-        return read_query(text)
-    except BadQuery:
-        return None
 
 
 def threads(ledger, user, words):

@@ -29,8 +29,7 @@ def deed_of(words, literal):
         return None
     parts = [kind]
     for part_kind, word in zip(shape, words[1:]):
-        reader = READERS[part_kind]
-        part = reader(word)
+        part = read_part(part_kind, word)
         if part is None:
             return None
         parts.append(part)
@@ -44,62 +43,43 @@ def words_of(deed):
     kind = deed[0]
     words = [kind]
     for part_kind, part in zip(SHAPES[kind], deed[1:]):
-        writer = WRITERS[part_kind]
-        words.append(writer(part))
-    return tuple(words), deed[-1] if kind in WITH_LITERAL else None
+        words.append(show_part(part_kind, part))
+    literal = deed[-1] if kind in WITH_LITERAL else None
+    return tuple(words), literal
 
 
-def as_it_is(word):
-    """A word that may be any."""
+def read_part(part_kind, word):
+    """The part of a deed that a word of this kind tells, or None."""
+    if part_kind == "box":
+        return read_box(word)
+    if part_kind == "uids":
+        return read_uids(word)
+    if part_kind == "flags" or part_kind == "addresses":
+        return read_flags(word)
+    if part_kind == "letters":
+        return "" if word == "-" else word
+    if part_kind == "number" or part_kind == "life":
+        number = read_number(word)
+        return None if part_kind == "life" and number == 0 else number
     return word
 
 
-def read_life(word):
-    """The life of a word, or None."""
-    life = read_number(word)
-    return None if life == 0 else life
+def show_part(part_kind, part):
+    """The word of this kind that tells a part of a deed."""
+    if part_kind == "uids":
+        return show_uids(part)
+    if part_kind == "flags":
+        return show_flags(part)
+    if part_kind == "addresses":
+        return show_flags(part) if are_words(part) else "-"
+    if part_kind == "letters" and part == "":
+        return "-"
+    return str(part)
 
 
-def read_letters(word):
-    """The letters of rights of a word."""
-    return "" if word == "-" else word
-
-
-def show_letters(letters):
-    """The word of letters of rights."""
-    return "-" if letters == "" else letters
-
-
-def show_addresses(addresses):
-    """The word of a tuple of addresses; where there is none, that of no addresses."""
+def are_words(addresses):
+    """Whether all addresses can be said as they stand, separated by commas."""
     for address in addresses:
         if address == "" or " " in address or "\n" in address or "," in address:
-            return "-"
-    return show_flags(addresses)
-
-
-def show_number(number):
-    """The word of a number."""
-    return str(number)
-
-
-READERS = {
-    "name": as_it_is,
-    "box": read_box,
-    "letters": read_letters,
-    "flags": read_flags,
-    "uids": read_uids,
-    "addresses": read_flags,
-    "life": read_life,
-    "number": read_number,
-}
-WRITERS = {
-    "name": as_it_is,
-    "box": show_number,
-    "letters": show_letters,
-    "flags": show_flags,
-    "uids": show_uids,
-    "addresses": show_addresses,
-    "life": show_number,
-    "number": show_number,
-}
+            return False
+    return True

@@ -2,7 +2,7 @@
 
 from oncemail.errors import BadPlain
 from oncemail.plain import read_plain, show_plain
-from oncemail.signs import is_integer
+from oncemail.signs import is_natural
 
 REMAINDER = 99991
 # The words with which a journal begins, and which stand nowhere else in it.
@@ -74,14 +74,14 @@ def is_any(part):
     return True
 
 
-def is_count(part):
+def is_number(part):
     """Whether a part is an integer from 0."""
-    return is_integer(part) and part >= 0
+    return is_natural(part)
 
 
 def is_life(part):
     """Whether a part is an integer from 1."""
-    return is_integer(part) and part >= 1
+    return is_natural(part) and part > 0
 
 
 def is_word(part):
@@ -98,11 +98,11 @@ def is_row(part):
 FORMS = {
     "house": (is_any, is_any, is_any, is_any),
     "short": (is_any,),
-    "deed": (is_count, is_word, is_word, is_life, is_count, is_row),
-    "met": (is_count, is_word, is_word, is_life, is_count),
-    "came": (is_count, is_word, is_count, is_row),
-    "offer": (is_count, is_word, is_count),
-    "gone": (is_count, is_word, is_count),
-    "up": (is_count, is_word, is_count),
-    "low": (is_count, is_word, is_count),
+    "deed": (is_number, is_word, is_word, is_life, is_number, is_row),
+    "met": (is_number, is_word, is_word, is_life, is_number),
+    "came": (is_number, is_word, is_number, is_row),
+    "offer": (is_number, is_word, is_number),
+    "gone": (is_number, is_word, is_number),
+    "up": (is_number, is_word, is_number),
+    "low": (is_number, is_word, is_number),
 }

@@ -54,6 +54,14 @@ def read_letter(text):
     return letter
 
 
+def letter_or_none(text):
+    """The letter of a text, or None if it is none."""
+    try:
+        return read_letter(text)
+    except BadLetter:
+        return None
+
+
 def write_letter(letter):
     """The text of a letter."""
     return "".join([f"{line}\n" for line in letter_lines(letter)])

@@ -1,15 +1,7 @@
 """A meeting of a device with its house, step by step (d3, d4)."""
 
-from oncemail.replies import (
-    answer_of,
-    box_row,
-    gone_uid,
-    kept_row,
-    last_of,
-    letter_or_none,
-    reason_of,
-    since_end,
-)
+from oncemail.letters import letter_or_none
+from oncemail.replies import answer_of, box_row, gone_uid, kept_row, last_of, reason_of, since_end
 from oncemail.talk import Listener, read_number, say
 
 MOST_LITERAL = 20000

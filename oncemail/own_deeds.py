@@ -1,8 +1,7 @@
 """The deeds of a device: which wait, which are answered, and what -k means by them (d2, d5, d6)."""
 
 from oncemail.commands import words_of
-from oncemail.errors import BadLetter
-from oncemail.letters import read_letter
+from oncemail.letters import letter_or_none
 from oncemail.meant import BOXED, TWO_BOXED, WITH_UIDS, meant_box
 from oncemail.names import is_deed
 from oncemail.talk import LINE_SIGNS, MOST_NUMBER, MOST_UIDS, say
@@ -34,14 +33,6 @@ class Own:
         if self._letter is None:
             self._letter = letter_or_none(self.deed[3])
         return self._letter
-
-
-def letter_or_none(text):
-    """The letter of a text, or None if it is none."""
-    try:
-        return read_letter(text)
-    except BadLetter:
-        return None
 
 
 class Deeds:

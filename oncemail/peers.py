@@ -1,9 +1,8 @@
 """What houses say to each other (k6)."""
 
 from oncemail.addresses import bare_address
-from oncemail.errors import BadLetter
 from oncemail.journeys import CAUSES
-from oncemail.letters import read_letter, write_letter
+from oncemail.letters import letter_or_none, write_letter
 from oncemail.names import is_device, is_house, is_name
 from oncemail.talk import read_number, say
 
@@ -52,14 +51,6 @@ def trail_and_text(literal, many):
     if len(trail) != many or not are_addresses(trail):
         return None, ""
     return trail, lines[-1]
-
-
-def letter_or_none(text):
-    """The letter of a text, or None if it is none."""
-    try:
-        return read_letter(text)
-    except BadLetter:
-        return None
 
 
 def notice_entry(words, house):

@@ -1,7 +1,5 @@
 """What a device hears of its house: rows and answers (k5, d3)."""
 
-from oncemail.errors import BadLetter
-from oncemail.letters import read_letter
 from oncemail.meant import TWO_BOXED
 from oncemail.names import are_flags, are_rights, is_name
 from oncemail.talk import read_flags, read_number, read_uids
@@ -76,11 +74,3 @@ def since_end(words):
         return None
     numbers = numbers_of(words[2:])
     return None if numbers is None else (words[1], numbers[1])
-
-
-def letter_or_none(text):
-    """The letter of a text, or None if it is none."""
-    try:
-        return read_letter(text)
-    except BadLetter:
-        return None

@@ -2,9 +2,8 @@
 
 from oncemail.addresses import bare_address
 from oncemail.contents import writer_of
-from oncemail.errors import BadLetter
 from oncemail.journeys import tell, travel
-from oncemail.letters import read_letter
+from oncemail.letters import letter_or_none
 
 MOST_ADDRESSES = 30
 SENT = 2
@@ -30,14 +29,6 @@ def send(ledger, turn, name, deed):
     ledger.sent[name] = tuple(unlike)
     travel(ledger, turn, [(name, teller, address, (), address, letter) for address in unlike])
     return ("ok", None)
-
-
-def letter_or_none(text):
-    """The letter of a text, or None if it is none."""
-    try:
-        return read_letter(text)
-    except BadLetter:
-        return None
 
 
 def want_back(ledger, turn, name):

@@ -22,6 +22,11 @@ def is_integer(thing):
     return type(thing) is int
 
 
+def is_natural(thing):
+    """Whether the thing is an integer from 0."""
+    return is_integer(thing) and thing >= 0
+
+
 def is_text(thing):
     """Whether the thing is a text."""
     return type(thing) is str and consists_of(thing, SIGNS)

@@ -4,7 +4,7 @@ from oncemail.device import Device, device_of
 from oncemail.errors import BadDeed, BadTurn
 from oncemail.house import first_line, house_of
 from oncemail.plain import read_plain, show_plain
-from oncemail.signs import is_integer
+from oncemail.signs import is_natural
 from oncemail.wires import Wire
 
 MOST_TURN = 10000
@@ -234,7 +234,7 @@ def open_line(world, fate):
 def close_line(world, fate):
     """Lets a line be closed in this turn."""
     _, one, other, many, others = fate
-    if not is_count(many) or not is_count(others):
+    if not is_natural(many) or not is_natural(others):
         return False
     wire = world.wire_between(one, other)
     if wire is None or wire.is_closing():
@@ -246,14 +246,9 @@ def close_line(world, fate):
 def begin_fall(world, fate):
     """Lets a house fall in this turn."""
     _, house, many = fate
-    if not world.has_house(house) or (many is not None and not is_count(many)):
+    if not world.has_house(house) or (many is not None and not is_natural(many)):
         return False
     return world.let_fall(house, many)
-
-
-def is_count(thing):
-    """Whether a thing is an integer from 0."""
-    return is_integer(thing) and thing >= 0
 
 
 FATES = {

@@ -1,6 +1,7 @@
 """The interface as it must stand in the files, and the plainest rules for these files."""
 
 import ast
+import builtins
 import importlib
 import inspect
 import os
@@ -140,6 +141,63 @@ class Files(unittest.TestCase):
                 if isinstance(node, ast.ImportFrom):
                     self.assertEqual(node.level, 0, path)
                     self.assertIn(node.module.split(".")[0], ("oncemail",) + LIBRARY, path)
+
+    def test_imports_name_the_file_that_defines_the_name_and_make_no_ring(self):
+        trees = {os.path.basename(path)[:-3]: tree_of(os.path.basename(path)[:-3]) for path in package_files()}
+        above = {}
+        for module, tree in trees.items():
+            used = {node.id for node in ast.walk(tree) if isinstance(node, ast.Name)}
+            above[module] = set()
+            for node in tree.body:
+                if isinstance(node, ast.ImportFrom):
+                    source = node.module.split(".")[1]
+                    above[module].add(source)
+                    for alias in node.names:
+                        self.assertIn(alias.name, names_bound(trees[source]), module)
+                        self.assertIsNone(alias.asname, module)
+                        self.assertIn(alias.name, used, module)
+        while above:
+            free = [module for module in above if not above[module] & set(above)]
+            self.assertTrue(free, above)
+            for module in free:
+                del above[module]
+
+    def test_tables_hold_functions_of_their_own_file(self):
+        for path in package_files():
+            tree = tree_of(os.path.basename(path)[:-3])
+            imported = {alias.name for node in tree.body if isinstance(node, ast.ImportFrom) for alias in node.names}
+            for node in tree.body:
+                if isinstance(node, ast.Assign):
+                    found = {inner.id for inner in ast.walk(node.value) if isinstance(inner, ast.Name)}
+                    self.assertEqual(found & imported, set(), path)
+
+    def test_no_name_has_two_meanings(self):
+        for path in package_files():
+            tree = tree_of(os.path.basename(path)[:-3])
+            bound = {alias.name for node in tree.body if isinstance(node, ast.ImportFrom) for alias in node.names}
+            bound |= {node.name for node in tree.body if isinstance(node, ast.ClassDef)} | set(dir(builtins))
+            for node in ast.walk(tree):
+                names = []
+                if isinstance(node, ast.Name) and isinstance(node.ctx, ast.Store):
+                    names = [node.id]
+                elif isinstance(node, ast.FunctionDef):
+                    names = [arg.arg for arg in node.args.args]
+                self.assertEqual([name for name in names if name in bound and name != "_"], [], path)
+            for node in ast.walk(tree):
+                if isinstance(node, ast.ClassDef):
+                    methods = {inner.name for inner in node.body if isinstance(inner, ast.FunctionDef)}
+                    stored = {inner.attr for inner in ast.walk(node) if isinstance(inner, ast.Attribute)
+                              and isinstance(inner.ctx, ast.Store)}
+                    self.assertEqual(methods & stored, set(), f"{path}: {node.name}")
+
+
+def names_bound(tree):
+    """The functions, classes and names that a file defines."""
+    names = {node.name for node in tree.body if isinstance(node, (ast.FunctionDef, ast.ClassDef))}
+    for node in tree.body:
+        if isinstance(node, ast.Assign):
+            names |= {target.id for target in node.targets}
+    return names
 
 
 if __name__ == "__main__":
