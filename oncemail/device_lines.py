@@ -2,26 +2,19 @@
 
 from oncemail.answers import answer_of, row
 from oncemail.commands import deed_of
+from oncemail.lines import Line
 from oncemail.names import is_device
-from oncemail.talk import Listener, read_box, read_number, show_value
+from oncemail.talk import read_box, read_number, show_value
 
 MOST_LITERAL = 20000
 MOST_DEVICES = 4
 
 
-class DeviceLine:
+class DeviceLine(Line):
     """A line to a device, which says at first who it is."""
 
     def __init__(self, scribe):
-        # No line to another house.
-        self.house = ""
-        self._scribe = scribe
-        self._ledger = scribe.ledger
-        self._listener = Listener(MOST_LITERAL)
-        self._heard = []
-        self._said = []
-        # Whether nothing more is heard and said.
-        self._ended = False
+        super().__init__("", MOST_LITERAL, scribe)
         # Who said hello; life is 0 until it was answered by ok.
         self._user = ""
         self._device = ""
@@ -29,35 +22,13 @@ class DeviceLine:
         # The change of each watched box that was told last.
         self._watched = {}
 
-    def hear(self, text):
-        """Hears signs."""
-        if not self._ended:
-            self._heard.extend(list(self._listener.hear(text)))
-
-    def say(self):
-        """What is to be said."""
-        text = "".join(self._said)
-        self._said = []
-        return text
-
-    def work(self):
-        """Does the commands that are whole."""
-        for words, literal in self._heard:
-            if self._ended:
-                break
-            answer = self._answer(words, literal)
-            if answer is None:
-                self._end("bye\n")
-            else:
-                self._said.append(answer)
-        self._heard = []
-        if self._listener.faulty() and not self._ended:
-            self._end("bye\n")
-
-    def _end(self, text):
-        """Says the last signs."""
-        self._said.append(text)
-        self._ended = True
+    def _does(self, words, literal):
+        """Whether a command is none that is a fault; it is done then."""
+        answer = self._answer(words, literal)
+        if answer is None:
+            return False
+        self._said.append(answer)
+        return True
 
     def _answer(self, words, literal):
         """The signs of the answer to a command, or None if it is a fault."""

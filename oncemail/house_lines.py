@@ -1,60 +1,32 @@
 """The lines between houses (k6, h8)."""
 
 from oncemail.answers import row
+from oncemail.lines import Line
 from oncemail.peers import command_of, say_entry
-from oncemail.talk import Listener
 
 MOST_LITERAL = 30000
 # How many turns an entry of a letter waits.
 PATIENCE = 100
 
 
-class HouseLine:
+class HouseLine(Line):
     """A line to another house."""
 
     def __init__(self, house, scribe):
-        self.house = house
-        self._scribe = scribe
-        self._name = scribe.ledger.name
+        super().__init__(house, MOST_LITERAL, scribe)
         self._post = scribe.ledger.posts[house]
-        self._listener = Listener(MOST_LITERAL)
-        self._heard = []
-        self._said = []
-        self._ended = False
         # The low that was said last, None until the line's first turn is done.
         self._low = None
         # The numbers of the entries that are said again in this turn.
         self._again = {}
 
-    def hear(self, text):
-        """Hears signs."""
-        if not self._ended:
-            self._heard.extend(list(self._listener.hear(text)))
-
-    def say(self):
-        """What is to be said."""
-        text = "".join(self._said)
-        self._said = []
-        return text
-
-    def work(self):
-        """Does the commands that are whole."""
-        for words, literal in self._heard:
-            if self._ended:
-                break
-            command = command_of(words, literal, self._name)
-            if command is None:
-                self._end()
-            else:
-                self._obey(*command)
-        self._heard = []
-        if self._listener.faulty() and not self._ended:
-            self._end()
-
-    def _end(self):
-        """Ends the line for a fault."""
-        self._said.append("bye\n")
-        self._ended = True
+    def _does(self, words, literal):
+        """Whether a command is none that is a fault; it is done then."""
+        command = command_of(words, literal, self._ledger.name)
+        if command is None:
+            return False
+        self._obey(*command)
+        return True
 
     def _obey(self, kind, number, thing):
         """Does a command."""
