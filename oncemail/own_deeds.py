@@ -80,7 +80,7 @@ class Deeds:
         box = meant_box(own.deed[1], self.means) if kind in BOXED else None
         if kind == "make" and answer[1] is not None:
             self.means[number] = ("box", answer[1])
-        elif kind == "put" and answer[1] is not None:
+        elif kind == "put" and answer[1] is not None and box is not None:
             self.means[number] = ("uid", box, answer[1])
         if kind in BY_BOXES and box is not None:
             own.pending[box] = True

@@ -324,6 +324,18 @@ class Steps(unittest.TestCase):
             started("ok 0\n", text, device=device)
             self.assertEqual((device.state(), device.answers()), ("refused", ()), text)
 
+    def test_a_deed_on_a_box_that_stands_for_nothing_is_settled_by_the_list(self):
+        device = Device("ann", "pad", 1)
+        device.do(("put", -9, (), TEXT))
+        device.do(("copy", 0, (1,), -9))
+        device.do(("flag", 0, (-1,), "add", ("x",)))
+        started("ok 0\n", "ok 4\nok 1\n", device=device)
+        self.assertEqual((len(device.unsettled()), device.boxes()), (3, ()))
+        device.hear("no uid\nbox 0 ann inbox lrsiea\nok 3\n")
+        self.assertEqual([row[0] for row in device.unsettled()], [2])
+        device.hear("ok since 1 0\n")
+        self.assertEqual(device.unsettled(), ())
+
     def test_order_is_an_answer(self):
         device = Device("ann", "pad", 1)
         device.do(("make", "a"))
