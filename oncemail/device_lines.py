@@ -76,18 +76,19 @@ class DeviceLine(Line):
         return "".join(rows)
 
     def _refusal(self, user, device, life, heard):
-        """The first reason for which a hello is refused, by c9."""
+        """The first reason for which a hello is refused, or an empty text."""
         devices = self._ledger.devices
+        # k5 has a row of reasons of its own for hello; that of c9 is for deeds.
+        if not is_device(device):
+            return "name"
+        if user not in self._ledger.users:
+            return "none"
+        if devices.others_of(user, device) >= MOST_DEVICES:
+            return "many"
         known = devices.known(user, device)
         if known is not None and known.life > life:
             return "order"
-        if heard > devices.last_of(user, device, life):
-            return "order"
-        if not is_device(device):
-            return "name"
-        if devices.others_of(user, device) >= MOST_DEVICES:
-            return "many"
-        return "" if user in self._ledger.users else "none"
+        return "order" if heard > devices.last_of(user, device, life) else ""
 
     def _do(self, words, literal):
         """The answer to a deed."""

@@ -19,13 +19,31 @@ class Hello(unittest.TestCase):
         for line, reason in (("hello ann Pad 1 0", "name"), ("hello ann pad1 1 0", "name"),
                              ("hello ann padpadpad 1 0", "name"), ("hello zoe pad 1 0", "none"),
                              ("hello Ann pad 1 0", "none"), ("hello zoe Pad 1 0", "name"),
-                             ("hello ann pad 1 1", "order"), ("hello zoe pad 1 1", "order"),
-                             ("hello zoe Pad 1 1", "order"), ("hello ann Pad 1 1", "order")):
+                             ("hello ann pad 1 1", "order"), ("hello ann pad 2 1", "order")):
             self.assertEqual(self.first(line + "\n"), ["no " + reason])
             self.assertEqual(self.hall.new, ())
         # Behind a refusal one may say hello again.
         self.hall.open("x")
         self.assertEqual(self.hall.ask("x", "hello zoe pad 1 0\nhello ann pad 1 0\nboxes\n")[:2], ["no none", "ok 0"])
+
+    def test_the_first_reason_of_several(self):
+        for device in ("a", "b", "c", "d"):
+            self.first(f"hello ann {device} 2 0\n")
+        # With 4 known devices of ann, each reason is due together with those that stand behind it in k5.
+        for line, reason in (("hello zoe Pad 1 1", "name"), ("hello zoe Pad 1 0", "name"),
+                             ("hello ann Pad 1 1", "name"), ("hello ann Pad 1 0", "name"),
+                             ("hello bo Pad 1 1", "name"), ("hello bo Pad 1 0", "name"),
+                             ("hello zoe pad 1 1", "none"), ("hello zoe pad 1 0", "none"),
+                             ("hello zoe a 1 1", "none"), ("hello zoe a 1 0", "none"),
+                             ("hello ann e 1 1", "many"), ("hello ann e 9 1", "many"),
+                             ("hello ann e 1 0", "many"),
+                             ("hello ann a 1 0", "order"), ("hello ann a 1 1", "order"),
+                             ("hello ann a 2 1", "order"), ("hello ann a 3 1", "order"),
+                             ("hello bo a 1 1", "order")):
+            self.assertEqual(self.first(line + "\n"), ["no " + reason], line)
+            self.assertEqual(self.hall.new, (), line)
+        self.assertEqual(self.first("hello ann a 2 0\n"), ["ok 0"])
+        self.hall.again()
 
     def test_the_fifth_device(self):
         for device in ("a", "b", "c", "d"):
@@ -35,7 +53,7 @@ class Hello(unittest.TestCase):
         self.assertEqual(self.hall.new, ())
         self.assertEqual(self.first("hello ann e 9 0\n"), ["no many"])
         self.assertEqual(self.first("hello ann E 9 0\n"), ["no name"])
-        self.assertEqual(self.first("hello ann e 9 1\n"), ["no order"])
+        self.assertEqual(self.first("hello ann e 9 1\n"), ["no many"])
         self.assertEqual(self.first("hello ann a 2 0\n"), ["ok 0"])
         self.assertEqual(self.first("hello bo e 1 0\n"), ["ok 0"])
 
